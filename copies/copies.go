@@ -1,0 +1,23 @@
+// Package copies makes copies that share no memory with what they were made of.
+package copies
+
+import (
+	"slices"
+
+	"countinghouse/api"
+)
+
+// Order returns a copy of o with legs of its own.
+func Order(o api.Order) api.Order {
+	o.Legs = slices.Clone(o.Legs)
+	return o
+}
+
+// All returns the copies of all elements of l.
+func All[T any](l []T, one func(T) T) []T {
+	var all []T
+	for _, x := range l {
+		all = append(all, one(x))
+	}
+	return all
+}
