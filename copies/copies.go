@@ -21,3 +21,9 @@ func All[T any](l []T, one func(T) T) []T {
 	}
 	return all
 }
+
+// Entry returns a copy of e with an order and dependencies of its own.
+func Entry(e api.Entry) api.Entry {
+	e.Order, e.Deps = Order(e.Order), slices.Clone(e.Deps)
+	return e
+}
