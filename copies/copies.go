@@ -27,3 +27,9 @@ func Entry(e api.Entry) api.Entry {
 	e.Order, e.Deps = Order(e.Order), slices.Clone(e.Deps)
 	return e
 }
+
+// Record returns a copy of r with an entry of its own.
+func Record(r api.Record) api.Record {
+	r.Slot.Entry = Entry(r.Slot.Entry)
+	return r
+}
