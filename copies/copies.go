@@ -33,3 +33,9 @@ func Record(r api.Record) api.Record {
 	r.Slot.Entry = Entry(r.Slot.Entry)
 	return r
 }
+
+// Msg returns a copy of m with an entry of its own.
+func Msg(m api.Msg) api.Msg {
+	m.Entry = Entry(m.Entry)
+	return m
+}
