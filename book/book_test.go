@@ -193,7 +193,7 @@ func TestSameAndCopyP9_1(t *testing.T) {
 	start := []api.Order{open(1, "a", 5), open(2, "b", 5), holding(3, "a", 2)}
 	_, a := book.Fold(start)
 	_, b := book.Fold(start)
-	if !book.Same(a, b) || !book.Same(a, a) || !book.Same(nil, nil) || book.Same(a, nil) || book.Same(nil, a) {
+	if !book.Same(a, b) || !book.Same(a, a) || !book.Same(nil, nil) || book.Same(a, nil) || book.Same(nil, a) || book.Same(book.New(), nil) || book.Same(nil, book.New()) {
 		t.Error("Same")
 	}
 	for i, o := range []api.Order{open(4, "c", 0), post(4, 1, "a", "b", 1), holding(4, "b", 1), release(4, "a", 2003), closing(4, 1), capture(4, 1, "a", "b", 2003, 1)} {

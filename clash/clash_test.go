@@ -148,6 +148,9 @@ func TestSwapP10_1(t *testing.T) {
 	if !same(l, before) {
 		t.Error("the argument has changed")
 	}
+	if got, ok := clash.Swap(l[:2], 0); !ok || !same(got, list(l[1], l[0])) {
+		t.Error(got, ok)
+	}
 	for _, i := range []int{1, 2, 3, -1, math.MaxInt, math.MinInt} {
 		if got, ok := clash.Swap(l, i); ok || len(got) != 0 {
 			t.Error(i, got, ok)

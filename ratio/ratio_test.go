@@ -224,6 +224,7 @@ func TestMeanP19_1(t *testing.T) {
 		{[]int64{0}, []float64{1}, 0, true},
 		{[]int64{-4, 4}, []float64{1, 1}, 0, true},
 		{[]int64{top}, []float64{math.MaxFloat64}, 0, false},
+		{[]int64{low}, []float64{math.MaxFloat64}, 0, false},
 		{[]int64{1, 1}, []float64{math.MaxFloat64, math.MaxFloat64}, 0, false},
 		{[]int64{top, low}, []float64{math.MaxFloat64, math.MaxFloat64}, 0, false},
 		{[]int64{0, 0}, []float64{math.MaxFloat64, math.MaxFloat64}, 0, true},
@@ -260,7 +261,7 @@ func TestNearP19_1(t *testing.T) {
 		{100, -100, 1.9, false}, {100, -100, 2, true}, {0, 0, 0, true}, {0, 1, 0.5, false}, {0, 1, 1, true}, {5, 5, 0, true},
 		{0, math.Copysign(0, -1), 0, true}, {5, 5, -1, false}, {0, 0, -1, true},
 		{nan(), 5, 1, false}, {5, nan(), 1, false}, {nan(), nan(), inf(), false}, {nan(), inf(), 1, false}, {inf(), nan(), 1, false},
-		{inf(), inf(), 0, true}, {-inf(), -inf(), 0, true}, {inf(), -inf(), inf(), false}, {inf(), 5, inf(), false}, {5, -inf(), inf(), false},
+		{inf(), inf(), 0, true}, {-inf(), -inf(), 0, true}, {inf(), -inf(), inf(), false}, {inf(), 5, inf(), false}, {5, -inf(), inf(), false}, {-inf(), 5, 1, false}, {5, inf(), 1, false},
 		{inf(), inf(), nan(), true}, {5, 5, nan(), false}, {5, 900, inf(), true},
 		{most, -most, 1, false}, {most, -most, 3, true}, {1, 1 + 1e-15, 1e-16, false},
 	} {

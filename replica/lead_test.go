@@ -447,10 +447,24 @@ func TestNewMemoryP16_2(t *testing.T) {
 		t.Error(out[1])
 	}
 	slots(t, r, rec(own, slot(0, api.Heard, 0, entry(ask(1, "a")))), rec(i, slot(0, api.Heard, 0, want)))
+	tick(t, r, append(toAll(3, msg(0, 0, api.Pre, own, 0, entry(ask(1, "a")))), toAll(3, msg(0, 0, api.Pre, i, 0, want))...)...)
 	m := msg(1, 0, api.Commit, at(1, 1), 0, entry(ask(9, "z"), at(2, 2)))
 	take(t, r, m, plain(0, 1, api.Got, at(1, 1), 0))
 	m.Entry.Deps[0] = at(2, 5)
 	if l := r.Slots(); l[2].Slot.Entry.Deps[0] != at(2, 2) {
 		t.Error(l[2])
 	}
+	// Neither does an answer.
+	for _, kind := range []int{api.Pre, api.Prep} {
+		out, _ = r.Take(msg(1, 0, kind, at(1, 1), 0, entry(ask(9, "z"))))
+		clear(out[0].Entry.Deps)
+	}
+	out, _ = r.Take(msg(1, 0, api.Pre, i, 0, want))
+	clear(out[0].Entry.Deps)
+	clear(out[0].Entry.Order.Legs)
+	slots(t, r, rec(own, slot(0, api.Heard, 0, entry(ask(1, "a")))), rec(i, slot(0, api.Heard, 0, want)), rec(at(1, 1), slot(0, api.Settled, 0, entry(ask(9, "z"), at(2, 2)))))
+}
+
+func TestBlankRecordP16_2(t *testing.T) {
+	slots(t, mustNew(t, 0, 3, stored(t, rec(at(1, 9), slot(0, api.Blank, 0, api.Entry{})))))
 }

@@ -186,7 +186,12 @@ func TestChooseP16_1(t *testing.T) {
 			e.Deps[0] = at(6, 6)
 		}
 	}
-	if !slices.Equal(c.Deps, ats(at(0, 9), at(1, 1))) || !slices.Equal(b.Deps, ats(at(1, 1))) {
+	post := api.Order{Id: api.Id{Client: 1, Seq: 1}, Kind: api.Post, Period: 1, Legs: []api.Leg{{Acct: "a", Sum: -1}, {Acct: "b", Sum: 1}}}
+	for _, state := range []int{api.Heard, api.Agreed, api.Settled} {
+		_, e := replica.Choose([]api.Slot{slot(9, state, 9, entry(post))})
+		clear(e.Order.Legs)
+	}
+	if post.Legs[0].Sum != -1 || !slices.Equal(c.Deps, ats(at(0, 9), at(1, 1))) || !slices.Equal(b.Deps, ats(at(1, 1))) {
 		t.Error("an argument has changed")
 	}
 }

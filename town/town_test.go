@@ -321,6 +321,46 @@ func TestCalmP18_4(t *testing.T) {
 	}
 }
 
+// With an empty bag there is no calm as long as an Inst is led.
+func TestCalmWhileLeadingP18_4(t *testing.T) {
+	x := town.New(3, 65536)
+	do(t, x, api.OK, asking(0, ask(1, "a")))
+	do(t, x, api.OK, step(town.Lose, 0))
+	do(t, x, api.OK, step(town.Lose, 0))
+	bag(t, x)
+	if n := x.Calm(50); n == 0 || n == 50 || len(x.Replica(2).List()) != 1 {
+		t.Error(n)
+	}
+}
+
+// Nor is there as long as a committed entry waits.
+func TestCalmWhileWaitingP18_4(t *testing.T) {
+	x := town.New(3, 65536)
+	do(t, x, api.OK, asking(0, ask(1, "a")))
+	do(t, x, api.OK, step(town.Bring, 0))
+	do(t, x, api.OK, step(town.Lose, 0))
+	do(t, x, api.OK, step(town.Lose, 0))
+	do(t, x, api.OK, step(town.Crash, 0))
+	do(t, x, api.OK, asking(1, ask(2, "a")))
+	do(t, x, api.OK, step(town.Lose, 0))
+	do(t, x, api.OK, step(town.Bring, 0))
+	do(t, x, api.OK, step(town.Bring, 0))
+	do(t, x, api.OK, step(town.Tick, 1))
+	do(t, x, api.OK, step(town.Lose, 0))
+	do(t, x, api.OK, step(town.Bring, 0))
+	do(t, x, api.OK, step(town.Bring, 0))
+	do(t, x, api.OK, step(town.Lose, 0))
+	do(t, x, api.OK, step(town.Lose, 0))
+	bag(t, x)
+	r := x.Replica(1)
+	if len(r.Waits()) != 1 || len(r.Leads()) != 0 || len(r.List()) != 0 {
+		t.Error(r.Waits(), r.Leads(), r.List())
+	}
+	if n := x.Calm(1); n != 1 {
+		t.Error(n)
+	}
+}
+
 func TestExportP18_3(t *testing.T) {
 	x := town.New(3, 65536)
 	for _, k := range []int{-1, 3, math.MaxInt} {

@@ -67,6 +67,7 @@ func TestCheckAndMakeP7_1(t *testing.T) {
 		{legs(leg("d", -1), leg("c", 1)), api.ErrOwes},
 		{legs(leg("d", -2), leg("c", 2)), api.ErrOver},
 		{legs(leg("c", low), leg("a", top), leg("e", 1)), api.ErrOver},
+		{legs(leg("d", low), leg("a", top), leg("e", 1)), api.ErrOver},
 		{legs(leg("x", low), leg("a", top), leg("e", 1)), api.ErrNone},
 		{legs(leg("a", top), leg("c", low), leg("e", 1)), api.ErrOver},
 		{legs(leg("e", 1), leg("a", top), leg("r", -top), leg("b", -1)), api.OK},
