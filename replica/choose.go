@@ -5,6 +5,7 @@ import (
 
 	"countinghouse/api"
 	"countinghouse/copies"
+	"countinghouse/insts"
 )
 
 // Majority returns n / 2, rounded down, plus 1.
@@ -15,7 +16,7 @@ func Majority(n int) int {
 // Union returns the Insts of a and b, in order, each once.
 func Union(a, b []api.Inst) []api.Inst {
 	l := slices.Concat(a, b)
-	slices.SortFunc(l, compare)
+	slices.SortFunc(l, insts.Compare)
 	return slices.Compact(l)
 }
 

@@ -4,6 +4,7 @@ import (
 	"slices"
 
 	"countinghouse/api"
+	"countinghouse/insts"
 )
 
 // phase is how far an Inst that is led has come.
@@ -172,7 +173,7 @@ func (r *Replica) Tick() ([]api.Msg, api.Errno) {
 			first = e
 		}
 	}
-	for _, i := range sorted(r.announced) {
+	for _, i := range insts.Sorted(r.announced) {
 		m := api.Msg{Kind: api.Commit, Inst: i, Entry: r.slots[i].Entry}
 		out = append(out, r.send(m, r.announced[i])...)
 	}
