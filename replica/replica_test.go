@@ -64,7 +64,23 @@ func stored(t *testing.T, l ...api.Record) *disk.Disk {
 
 func rec(i api.Inst, s api.Slot) api.Record { return api.Record{Inst: i, Slot: s} }
 
+// seen is m without what its Kind does not have.
+func seen(m api.Msg) api.Msg {
+	if m.Kind == api.Commit || m.Kind == api.Got {
+		m.Ballot = 0
+	}
+	if m.Kind != api.PrepOK {
+		m.State, m.By = 0, 0
+	}
+	switch m.Kind {
+	case api.AccOK, api.Prep, api.Refused, api.Got:
+		m.Entry = api.Entry{}
+	}
+	return m
+}
+
 func sameMsg(a, b api.Msg) bool {
+	a, b = seen(a), seen(b)
 	return a.From == b.From && a.To == b.To && a.Kind == b.Kind && a.Inst == b.Inst && a.Ballot == b.Ballot &&
 		a.State == b.State && a.By == b.By && runner.Same(a.Entry, b.Entry)
 }

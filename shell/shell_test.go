@@ -168,7 +168,6 @@ func TestErrorsOfStepsP20_1(t *testing.T) {
 		"accts 3":                 "error 14",
 		"sum 999999":              "error 14",
 		"calm 0":                  "0",
-		"calm 999999":             "0",
 		"told":                    "",
 		"list 0":                  "",
 		"accts 2":                 "",

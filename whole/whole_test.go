@@ -181,19 +181,19 @@ func functions(r odd) {
 	history.Apart(l)
 }
 
-// objects calls the methods of objects that are nil, zero, or new.
+// objects calls the methods of objects that are nil or new.
 func objects(r odd) {
-	read := pick(r, nil, &pack.Reader{}, pack.New(r.bytes()))
+	read := pick(r, nil, pack.New(r.bytes()))
 	for range 4 {
 		pick(r, func() { read.Num() }, func() { read.Range(r.sum(), r.sum()) }, func() { read.Text(r.int()) }, func() { read.Nums(r.int()) }, func() { read.Done() })()
 		read.Left()
 	}
-	d := pick(r, nil, &disk.Disk{}, disk.New(r.int()))
+	d := pick(r, nil, disk.New(r.int()))
 	for range 6 {
 		pick(r, func() { d.Append(r.bytes()) }, func() { d.Sync() }, func() { d.Cut(r.int()) }, d.Break, func() { d.Up(r.int(), many(r, 3, r.spoil)) }, func() { log.Put(d, many(r, 2, r.record)) }, func() { log.Trim(d) })()
 		_ = len(d.Bytes()) + d.Sure() + d.Room()
 	}
-	c, h := pick(r, nil, &chart.Chart{}, chart.New()), pick(r, nil, &hold.Holds{}, hold.New())
+	c, h := pick(r, nil, chart.New()), pick(r, nil, hold.New())
 	for range 8 {
 		s, a := r.text(), r.sum()
 		pick(r, func() { c.Open(s, a) }, func() { c.Give(s, a) }, func() { c.Aside(s, a) }, func() { voucher.Make(c, many(r, 7, r.leg)) }, func() { voucher.Check(c, many(r, 7, r.leg)) },
@@ -205,7 +205,7 @@ func objects(r odd) {
 		c, h = c.Copy(), h.Copy()
 	}
 	books(r)
-	x := pick(r, nil, &post.Bag{}, post.New())
+	x := pick(r, nil, post.New())
 	for range 4 {
 		pick(r, func() { x.Put(many(r, 5, r.msg)) }, func() { x.Take(r.int()) }, func() { x.Look(r.int()) }, func() { x.Twice(r.int()) })()
 		x.For(r.int())
@@ -223,9 +223,9 @@ func objects(r odd) {
 }
 
 func books(r odd) {
-	b := pick(r, nil, &book.Book{}, book.New())
-	desk := pick(r, nil, &stream.Desk{}, stream.New())
-	run := pick(r, nil, &runner.Runner{}, runner.New())
+	b := pick(r, nil, book.New())
+	desk := pick(r, nil, stream.New())
+	run := pick(r, nil, runner.New())
 	for range 8 {
 		pick(r, func() { b.Do(r.order()) }, func() { desk.Do(r.order()) }, func() { desk.Read(r.text(), r.text()) }, func() { desk.Take(r.text(), r.int()) }, func() { desk.Back(r.text(), r.int()) },
 			func() { run.Commit(r.inst(), r.entry()) }, func() { run.Run() })()
@@ -251,8 +251,8 @@ func books(r odd) {
 
 func replicas(r odd) {
 	x, _ := replica.New(r.int(), r.int(), pick(r, nil, disk.New(r.int())))
-	x = pick(r, x, x, &replica.Replica{})
-	y := pick(r, nil, &town.Town{}, town.New(3, r.int()), town.New(3, 65536))
+	x = pick(r, x, x, nil)
+	y := pick(r, nil, town.New(3, r.int()), town.New(3, 65536))
 	for range 12 {
 		pick(r, func() { x.Submit(r.order()) }, func() { x.Take(r.msg()) }, func() { x.Tick() })()
 		x.Slots()
